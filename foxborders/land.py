@@ -82,10 +82,20 @@ def corner_number(land, side):
     return _corner_numbers(land)[side]
 
 
+def all_ends(land):
+    """The tuple, border by border, of the pairs of the numbers of the corners at both ends."""
+    numbers = _corner_numbers(land)
+    return tuple([(numbers[(e, 0)], numbers[(e, 1)]) for e in range(len(land[1]))])
+
+
 def ends(land, e):
     """The pair of the numbers of the corners at both ends of border e."""
-    numbers = _corner_numbers(land)
-    return (numbers[(e, 0)], numbers[(e, 1)])
+    return all_ends(land)[e]
+
+
+def corner_count(land):
+    """How many corners a right land has (Euler)."""
+    return 2 - land[0] + len(land[1])
 
 
 def shires_at(land, c):

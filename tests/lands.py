@@ -84,6 +84,59 @@ def _numbered_anew(dice, pairs, turns, most):
     return len(turns), tuple(new_pairs), tuple(new_turns), lengths
 
 
+def _with_shire(turns, pairs, darts):
+    """Turns and pairs with one shire more, within one corner, linked to some of its darts."""
+    new = len(turns)
+    numbers = {dart: len(pairs) + k for k, dart in enumerate(darts)}
+    grown = [[] for _ in turns]
+    for shire, turn in enumerate(turns):
+        for place, e in enumerate(turn):
+            grown[shire].append(e)
+            if (shire, place) in numbers:
+                grown[shire].append(numbers[(shire, place)])
+    pairs = pairs + [(shire, new) for shire, _ in darts]
+    mine = [numbers[dart] for dart in darts]
+    # One of both ways round is the one that can be drawn.
+    for turn in (mine, mine[::-1]):
+        if len(grown) + 1 - len(pairs) + count_corners(grown + [turn]) == 2:
+            return grown + [turn], pairs
+    raise AssertionError("one way can be drawn")
+
+
+def woven_land(seed, shires, most=1):
+    """A right land in which each shire from the fourth on was put into a corner, with links to two or more about it."""
+    dice = Dice(seed)
+    pairs, turns = [(0, 1), (1, 2), (0, 2)], [[0, 2], [1, 0], [2, 1]]
+    while len(turns) < shires:
+        shire = dice.below(len(turns))
+        darts = darts_round(turns, (shire, dice.below(len(turns[shire]))))
+        chosen = dice.shuffled(range(len(darts)))[:2 + dice.below(4)]
+        turns, pairs = _with_shire(turns, pairs, [darts[at] for at in sorted(chosen)])
+    return _numbered_anew(dice, pairs, turns, most)
+
+
+def board(rows, columns, lengths=(1,)):
+    """A land of shires in rows and columns, each with a border to those beside it."""
+    places = [(x, y) for x in range(columns) for y in range(rows)]
+    pairs = [(places.index((x, y)), places.index(other)) for x, y in places for other in ((x, y + 1), (x + 1, y))
+             if other in places]
+    turns = []
+    for s, (x, y) in enumerate(places):
+        beside = [(x + 1, y), (x, y + 1), (x - 1, y), (x, y - 1)]
+        others = [places.index(other) for other in beside if other in places]
+        turns.append(tuple(pairs.index(tuple(sorted((s, other)))) for other in others))
+    return len(places), tuple(pairs), tuple(turns), tuple(lengths[e % len(lengths)] for e in range(len(pairs)))
+
+
+def prism(n, lengths=(1,)):
+    """A land of two rings, one within the other, of n shires each, with borders between."""
+    pairs = [tuple(sorted((i, (i + 1) % n))) for i in range(n)]
+    pairs += [(a + n, b + n) for a, b in pairs] + [(i, n + i) for i in range(n)]
+    turns = [(i, 2 * n + i, (i - 1) % n) for i in range(n)]
+    turns += [(2 * n + i, n + i, n + (i - 1) % n) for i in range(n)]
+    return 2 * n, tuple(pairs), tuple(turns), tuple(lengths[e % len(lengths)] for e in range(3 * n))
+
+
 # One border alone: both its ends are one corner.
 ONE = (2, ((0, 1),), ((0,), (0,)), (7,))
 # Three borders between the same two shires, as the turns have to stand.
@@ -114,7 +167,11 @@ GROWN = tuple(_grown())
 # As large as callers may pass them.
 LARGE = (grown_land(901, 24, 60, 999999999), grown_land(902, 24, 23), grown_land(903, 2, 60, 999999999),
          grown_land(904, 24, 60, 1))
-LANDS = BY_HAND + GROWN + LARGE
+# Lands with tables: for numbers above the outer borders of all shires, too.
+WOVEN = tuple(woven_land(seed, 4 + seed % 7, 1 + seed % 4) for seed in range(60))
+GREAT = (board(4, 6), prism(12), board(4, 6, (3, 1, 4, 1, 5, 9, 2, 6)), prism(12, (3, 1, 4, 1, 5, 9, 2)),
+         woven_land(7, 20, 3), woven_land(8, 20, 999999999), board(5, 4, (10 ** 9 - 1, 10 ** 9 - 2)))
+LANDS = BY_HAND + GROWN + LARGE + WOVEN[:14] + GREAT[:1]
 
 
 def all_sides(land):

@@ -15,6 +15,26 @@ FUNCTIONS = {
     "foxborders.texts": (
         "land_text(land); read_land(text); plan_text(plan); read_plan(text); lot_text(numbers); read_lot(text); "
         "table_text(table); read_table(text)"),
+    "foxborders.sheets": (
+        "judge_sheet(value); is_sheet(value); land_of_sheet(sheet); letters_of(sheet); shire_of_cell(sheet, r, c); "
+        "border_sides(sheet); corner_points(sheet); mirrored_sheet(sheet); turned_sheet(sheet); blown_sheet(sheet, "
+        "k); with_letter(sheet, one, other); sheet_text(sheet); read_sheet(text)"),
+    "foxborders.rounds": (
+        "step_from(land, step); step_to(land, step); length_of(land, steps); far(land, c, d); all_far(land); "
+        "walk_of(land, c, d); judge_walk(land, c, d, value); round_of(land, e, f); round_shown(land, e, f); "
+        "judge_round(land, e, f, value); is_noisy(land, e, f, k); noisy(land, e, k); all_noisy(land, k); "
+        "pieces(land, e, k); all_pieces(land, k); piece_of(land, e, k, s); way_of(land, e, k, s, t); "
+        "judge_way(land, e, k, s, t, value)"),
+    "foxborders.plans": (
+        "is_lot(n, value); rest_of(n, lot); is_plan(n, value); shires_of(plan); formed(plan); lots_of(plan); "
+        "judge_lots(n, value); plan_of(n, lots); width(land, plan); widest(land, plan); judge_plan(land, k, value); "
+        "rooted(plan, s); led(plan, names); put_plans(one, s, other, t); ladder(order); is_ladder(plan); "
+        "near_plans(plan); plans_between(one, other); judge_between(one, other, value)"),
+    "foxborders.tables": (
+        "first_sketch(land); is_within(one, other); together(one, other); sketch_pieces(land, k, e, shires); "
+        "judge_table(land, k, value); is_table(land, k, value); falls(land, k, sketch); fallen(sketch, fall); "
+        "greatest_within(land, k, sketch); greatest_table(land, k); laps(land, k); lap_of(land, k, c, s); "
+        "goes_at(land); thin_table(land, k, table)"),
 }
 CLASSES = {"foxborders.errors": "BadText(place); BadDeed(); NothingDone()"}
 
