@@ -40,7 +40,7 @@ class Examples(unittest.TestCase):
 
     def test_all_files(self):
         paths = sorted(FOLDER.glob("*.txt"))
-        self.assertEqual([path.stem for path in paths], ["land", "plans", "rounds", "sheets", "tables", "texts"])
+        self.assertEqual([path.stem for path in paths], ["changes", "chase", "land", "plans", "rounds", "sheets", "tables", "texts", "verdicts"])
         for path in paths:
             with self.subTest(path.stem):
                 self.assertGreater(self.check(path), 5)

@@ -35,6 +35,20 @@ FUNCTIONS = {
         "judge_table(land, k, value); is_table(land, k, value); falls(land, k, sketch); fallen(sketch, fall); "
         "greatest_within(land, k, sketch); greatest_table(land, k); laps(land, k); lap_of(land, k, c, s); "
         "goes_at(land); thin_table(land, k, table)"),
+    "foxborders.chase": (
+        "bell_moves(land, c); fox_moves(land, k, position, e); behind(land, position, e, t); ranks(land, k); "
+        "rank_of(land, k, position); bell_move(land, k, position); fox_move(land, k, position, e); "
+        "judge_chase(land, k, value); chase_end(land, chase); best_chase(land, k, position); hunted(land, k, "
+        "position, picks); lived(land, k, position, picks); is_won(land, k); longest_rank(land, k); refuges(land, "
+        "k); wins_from(land, k, c)"),
+    "foxborders.verdicts": (
+        "is_below(land, k); least_width(land); told_for(land, k); judge_told(land, k, value); paper_for(land, k); "
+        "judge_paper(land, k, value); good_joins(land); join_widths(land); best_joins(land); plan_of_joins(land, "
+        "row); judge_joins(land, k, value); best_plan(land); verdict(land); judge_verdict(land, value)"),
+    "foxborders.changes": (
+        "joined(land, e); joined_shires(land, e); joined_borders(land, e); shrunk(land, e); contrary(land); "
+        "pieces_without(land, s); parting_shires(land); part_of(land, lot); parted(land, s); put_lands(one, s, "
+        "other, t); has_ring(land); bundled(land)"),
 }
 CLASSES = {"foxborders.errors": "BadText(place); BadDeed(); NothingDone()"}
 
