@@ -28,7 +28,7 @@ def _piece_from(links, mask, seed):
         bit = todo & -todo
         found = links[bit.bit_length() - 1] & mask & ~piece
         piece |= found
-        todo = todo ^ bit | found
+        todo = (todo ^ bit) | found
     return piece
 
 

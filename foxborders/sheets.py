@@ -15,7 +15,7 @@ _NEAR = ((0, 1), (1, 0), (0, -1), (-1, 0), (1, 1), (1, -1), (-1, 1), (-1, -1))
 # turn to the left from the one ahead.
 _STEPS = ((1, 0), (0, 1), (-1, 0), (0, -1))
 # For each heading, the cell ahead on the left of a point, from the point's own one; the cell ahead on the right is
-# that of the heading ahead in the row.
+# that of the heading one less, which is the last one for heading 0.
 _AHEAD_LEFT = ((0, 0), (-1, 0), (-1, -1), (0, -1))
 
 

@@ -65,6 +65,19 @@ class JustOne(unittest.TestCase):
                 tables += table and not shire
         self.assertGreater(tables, 12)
 
+    def test_each_number_of_small_lands(self):
+        numbers = 0
+        for land in UP_TO_SIX:
+            least = least_width_of_all(land)
+            for k in range(1, least + 4) if least < 30 else ():
+                numbers += 1
+                plan = told_for(land, k) if least < k else None
+                paper = paper_for(land, k)
+                self.assertEqual(plan is None, paper is not None)
+                self.assertIsNone(judge_told(land, k, plan or paper))
+                self.assertTrue(plan is not None or judge_paper(land, k, paper) is None)
+        self.assertGreater(numbers, 500)
+
     def test_all_numbers_about_the_least_width(self):
         for land in WOVEN + GREAT:
             told = least_width(land)
