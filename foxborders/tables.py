@@ -63,17 +63,17 @@ class Shrinking:
 
     def take(self, c, s):
         """Takes shire s from corner c of a table, from which nothing else could fall."""
-        self.at[c] ^= 1 << s
+        self.at[c] &= ~(1 << s)
         self.late_corners = []
         self.late_borders = list(self.borders_by_corner[c])
 
     def settled(self):
         """Does laps till nothing falls, and returns whether a table is left."""
         while self.lap():
-            # The land is in one piece: where nothing is left, all falls.
-            if 0 in self.at or 0 in self.along:
+            # The land is in one piece: where nothing is left at one corner, all falls.
+            if 0 in self.at:
                 return False
-        return 0 not in self.at and 0 not in self.along
+        return 0 not in self.at
 
     def sketch(self):
         """The sketch that is left."""
@@ -292,11 +292,10 @@ def thin_table(land, k, table):
     left = table
     for c in range(len(table[0])):
         here = left[0][c]
+        # Some of these may have fallen when others were taken: then nothing changes.
         for s in here:
-            # What fell with a shire ahead of it is no longer there.
-            if s in left[0][c]:
-                shrinking = Shrinking(told, links, left)
-                shrinking.take(c, s)
-                if shrinking.settled():
-                    left = shrinking.sketch()
+            shrinking = Shrinking(told, links, left)
+            shrinking.take(c, s)
+            if shrinking.settled():
+                left = shrinking.sketch()
     return left

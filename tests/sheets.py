@@ -70,7 +70,7 @@ BY_HAND = (
     ("a.a", "aaa"), ("...", ".z.", "..."), ("aab", "dxb", "dcc"), ("abc", "def", "ghi"), ("az", "az"),
     ("a.b", ".c.", "d.e"), ("aabb", "ccdd"), ("....a", "bbbb."), ("aaaa", "abca", "aa.a", "a..a"),
     ("zyxwvutsrqponmlkjihgfedcba",), ("ab", "cd"), ("ab", "ab"),
-    ("aaaaa", "a.b.a", "a...a", "aaa.a"),
+    ("aaaaa", "a.b.a", "a...a", "aaa.a"), ("...a", "b.c.", ".d.."), ("a...", ".c.b", "..d."), (".d..", "b.c.", "...a"),
 )
 GROWN = tuple(grown_sheet(seed, 2 + seed % 5, 2 + seed * 3 % 6, "abcdefghz"[:1 + seed % 9], 150) for seed in range(40))
 SHEETS = tuple(sheet for sheet in BY_HAND + GROWN if sheet_fault(sheet) is None)

@@ -6,7 +6,7 @@ from foxborders.tables import first_sketch, goes_at, greatest_table, is_table, j
 from foxborders.texts import read_table
 from tests.lands import BY_HAND, FOUR, ONE, RING, TRIPLE, Dice
 from tests.tables_oracle import Ground
-from tests.test_tables import WITH_TABLES
+from tests.test_tables import SEVERAL, WITH_TABLES
 from tests.values import changes, exact, odd_values, unchanged
 
 TABLE = greatest_table(FOUR, 4)
@@ -30,6 +30,21 @@ class Judged(unittest.TestCase):
                 self.assertIsNone(self.judged(land, 1, value))
                 self.assertEqual(judge_table(land, k + 1, value)[0], "piece")
                 self.assertEqual(judge_table(land, 10 ** 12 - 1, value)[0], "piece")
+
+    def test_tables_of_lesser_numbers(self):
+        great = 0
+        for land in WITH_TABLES[::2] + tuple(land for land, _ in SEVERAL):
+            k = goes_at(land) - 1
+            table = thin_table(land, k, greatest_table(land, 1))
+            for value in (table, greatest_table(land, k), greatest_table(land, max(k // 2, 1))):
+                for number in (k, k + 1, k + 3, 2 * k, 10 ** 12 - 1):
+                    ground = Ground(land, number)
+                    fault = self.judged(land, number, value, ground) and ground.fault(value)
+                    if fault is not None:
+                        word, e, _, s = fault
+                        # The least shire tells pieces of several shires, too.
+                        great += word == "piece" and [len(piece) for piece in ground.pieces(e, value[1][e]) if s in piece][0] > 1
+        self.assertGreater(great, 5)
 
     def test_any_value(self):
         for value in odd_values():

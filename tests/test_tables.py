@@ -6,12 +6,14 @@ from foxborders.land import outer_borders, with_length
 from foxborders.rounds import pieces, round_of
 from foxborders.tables import (fallen, falls, first_sketch, goes_at, greatest_table, greatest_within, is_table, is_within,
                                judge_table, lap_of, laps, sketch_pieces, thin_table, together)
-from tests.lands import BY_HAND, FOUR, GREAT, GROWN, LANDS, LARGE, ONE, RING, ROW, TRIPLE, WOVEN, Dice
+from tests.lands import BY_HAND, FOUR, GREAT, GROWN, LANDS, LARGE, ONE, RING, ROW, TRIPLE, WOVEN, Dice, prism, woven_land
 from tests.plans_oracle import least_width_of_all
 from tests.tables_oracle import Ground, all_empty, random_sketch, within, without
 from tests.values import exact, unchanged
 
 MOST = 10 ** 12 - 1
+# Lands, with a number, in whose tables there are borders with several pieces, one of which can fall by itself.
+SEVERAL = ((prism(8, (5, 1, 1, 2)), 7), (prism(8, (5, 1, 1, 2)), 8), (woven_land(59, 16, 4), 11), (woven_land(65, 10, 3), 14))
 WITH_TABLES = tuple(land for land in WOVEN + GROWN if greatest_table(land, 2) is not None)
 
 
@@ -132,6 +134,26 @@ class Greatest(unittest.TestCase):
                         self.assertIsNone(ground.fault(told))
         self.assertGreater(found, 40)
 
+    def test_where_pieces_fall_by_themselves(self):
+        less = 0
+        for land, k in SEVERAL:
+            ground = Ground(land, k)
+            dice = Dice(k)
+            table = greatest_table(land, k)
+            for c, shires in list(enumerate(table[0]))[::4]:
+                for s in shires[::2]:
+                    sketch = without(table, ("at", c, s))
+                    left = ground.left_of(sketch, dice)
+                    less += left != sketch and not all_empty(left)
+                    told = greatest_within(land, k, sketch)
+                    self.assertEqual(told, None if all_empty(left) else left)
+            # From along alone something falls here, too.
+            for e, shires in list(enumerate(table[1]))[::7]:
+                sketch = without(table, ("along", e, shires[:1]))
+                left = ground.left_of(sketch, dice)
+                self.assertEqual(greatest_within(land, k, sketch), None if all_empty(left) else left)
+        self.assertGreater(less, 0)
+
     def test_within_a_table(self):
         for land in WITH_TABLES:
             told = greatest_table(land, 2)
@@ -139,6 +161,8 @@ class Greatest(unittest.TestCase):
             at, along = told
             self.assertIsNone(greatest_within(land, 2, (at[:-1] + ((),), along)))
             self.assertIsNone(greatest_within(land, 2, (at, ((),) + along[1:])))
+            # Nothing falls from a sketch that has () alone; it is no table.
+            self.assertIsNone(greatest_within(land, 2, (((),) * len(at), ((),) * len(along))))
 
     def test_first_sketch(self):
         for land in LANDS + WOVEN:
@@ -237,31 +261,30 @@ class Goes(unittest.TestCase):
 class Thin(unittest.TestCase):
 
     def test_shire_by_shire(self):
-        for land in WITH_TABLES[:20]:
-            k = goes_at(land) - 1
+        cases = [(land, k) for land in WITH_TABLES[:16] for k in {goes_at(land) - 1, max(goes_at(land) - 2, 1)}]
+        for land, k in cases + list(SEVERAL[1:2]):
+            ground = Ground(land, k)
             dice = Dice(k)
-            for number in {k, max(k - 1, 1)}:
-                ground = Ground(land, number)
-                table = greatest_table(land, number)
-                left = table
-                for c in range(len(table[0])):
-                    for s in left[0][c]:
-                        if s in left[0][c]:
-                            tried = ground.left_of(without(left, ("at", c, s)), dice)
-                            left = left if all_empty(tried) else tried
-                self.assertEqual(exact(unchanged(self, thin_table, land, number, table)), exact(left))
+            table = greatest_table(land, k)
+            left = table
+            for c in range(len(table[0])):
+                for s in left[0][c]:
+                    if s in left[0][c]:
+                        tried = ground.left_of(without(left, ("at", c, s)), dice)
+                        left = left if all_empty(tried) else tried
+            self.assertEqual(exact(unchanged(self, thin_table, land, k, table)), exact(left))
 
     def test_nothing_can_be_taken(self):
-        for land in WITH_TABLES + GREAT[:3]:
-            for k in {1, goes_at(land) - 1}:
-                table = greatest_table(land, k)
-                thin = thin_table(land, k, table)
-                self.assertIsNone(judge_table(land, k, thin))
-                self.assertIs(is_within(thin, table), True)
-                for c, shires in enumerate(thin[0]):
-                    for s in shires:
-                        self.assertIsNone(greatest_within(land, k, fallen(thin, ("at", c, s))))
-                self.assertEqual(thin_table(land, k, thin), thin)
+        cases = [(land, k) for land in WITH_TABLES + GREAT[:3] for k in {1, goes_at(land) - 1}]
+        for land, k in cases + list(SEVERAL):
+            table = greatest_table(land, k)
+            thin = thin_table(land, k, table)
+            self.assertIsNone(judge_table(land, k, thin))
+            self.assertIs(is_within(thin, table), True)
+            for c, shires in enumerate(thin[0]):
+                for s in shires:
+                    self.assertIsNone(greatest_within(land, k, fallen(thin, ("at", c, s))))
+            self.assertEqual(thin_table(land, k, thin), thin)
 
 
 class Sizes(unittest.TestCase):
