@@ -127,14 +127,22 @@ def widest(land, plan):
     return [lot for lot in lots_of(plan) if outer_border(land, lot) == greatest][0]
 
 
-def judge_plan(land, k, value):
-    """None for a plan of the land's shires of a width below k, else its first fault."""
-    if not _is_plan_below(land[0], value):
+def judge_members(n, word, value):
+    """None for a plan of n members, else ("form",), or word and the least member that does not stand just once."""
+    if not _is_plan_below(n, value):
         return ("form",)
     leaves = _leaves(value)
-    for s in range(land[0]):
-        if leaves.count(s) != 1:
-            return ("shire", s)
+    for member in range(n):
+        if leaves.count(member) != 1:
+            return (word, member)
+    return None
+
+
+def judge_plan(land, k, value):
+    """None for a plan of the land's shires of a width below k, else its first fault."""
+    fault = judge_members(land[0], "shire", value)
+    if fault is not None:
+        return fault
     for lot in lots_of(value):
         length = outer_border(land, lot)
         if length >= k:

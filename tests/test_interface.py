@@ -49,6 +49,23 @@ FUNCTIONS = {
         "joined(land, e); joined_shires(land, e); joined_borders(land, e); shrunk(land, e); contrary(land); "
         "pieces_without(land, s); parting_shires(land); part_of(land, lot); parted(land, s); put_lands(one, s, "
         "other, t); has_ring(land); bundled(land)"),
+    "foxborders.bordertrees": (
+        "meeting_shires(land, lot); meeting_corners(land, lot); shire_load(land, lot); corner_load(land, lot); "
+        "tree_load(land, tree); corner_tree_load(land, tree); judge_tree(land, k, value); judge_corner_tree(land, k, "
+        "value); angles(land); land_of_turns(land); outer_in_turns(land, lot); least_load(land); best_tree(land); "
+        "one_corner_borders(land); tree_verdict(land); judge_tree_verdict(land, value)"),
+    "foxborders.counting": (
+        "plans_below(land, k); plan_number(land, k, plan); plan_at(land, k, i); plans_with(land, k, lot); "
+        "standing_lots(land, k); sure_lots(land, k); least_with(land, lot); plan_with(land, lot); "
+        "plans_by_neighbours(land, k); plans_in_pieces(land, k)"),
+    "foxborders.binding": (
+        "profile(land, e, many); longest(land, e, k); room_of(land, e); rooms(land); binding(land); is_full(land); "
+        "slack_of(land, e); slacks(land); holding(land); is_bare(land); filled(land, order); thinned(land, order); "
+        "long_shires(land); gap(land); tight_lots(land, plan); plan_rooms(land, plan); room_paper(land, e); "
+        "judge_room(land, e, value)"),
+    "foxborders.kept": (
+        "new_board(land); is_deed(board, value); done(board, deed); boards(board); undone(board); redone(board); "
+        "width_now(board); told_now(board, k); widths_of(board); all_deeds(board, m); short_way(board)"),
 }
 CLASSES = {"foxborders.errors": "BadText(place); BadDeed(); NothingDone()"}
 
