@@ -11,13 +11,13 @@ _DIGITS = "0123456789"
 _MOST_DIGITS = 9
 
 
-def _want_text(value):
+def want_text(value):
     """Stops at what is no text."""
     if not isinstance(value, str):
         raise BadText(0)
 
 
-def _want_end(text, at):
+def want_end(text, at):
     """Stops at a sign where the text has to be over."""
     if at < len(text):
         raise BadText(at)
@@ -31,7 +31,7 @@ def _agreeing(text, at, word):
     return many
 
 
-def _one_of(text, at, words):
+def one_of(text, at, words):
     """The one of some words that stands at a place, and the place behind it; no word begins another one."""
     many = [_agreeing(text, at, word) for word in words]
     for word, agreeing in zip(words, many):
@@ -40,21 +40,26 @@ def _one_of(text, at, words):
     raise BadText(at + max(many))
 
 
-def _past(text, at, word):
+def past(text, at, word):
     """The place behind a word that has to stand at a place."""
-    return _one_of(text, at, (word,))[1]
+    return one_of(text, at, (word,))[1]
 
 
-def _integer(text, at):
-    """The integer that stands at a place, and the place behind it."""
+def integer(text, at, most):
+    """The integer, of so many digits at most, that stands at a place, and the place behind it."""
     if text[at:at + 1] == "0":
         return 0, at + 1
     behind = at
-    while behind < len(text) and behind - at < _MOST_DIGITS and text[behind] in _DIGITS:
+    while behind < len(text) and behind - at < most and text[behind] in _DIGITS:
         behind += 1
     if behind == at:
         raise BadText(at)
     return int(text[at:behind]), behind
+
+
+def _integer(text, at):
+    """The integer that stands at a place in the texts of this file, and the place behind it."""
+    return integer(text, at, _MOST_DIGITS)
 
 
 def _numbers(text, at):
@@ -86,21 +91,21 @@ def land_text(land):
 def _border(text, at):
     """The two shires and the length that stand at a place, and the place behind them."""
     a, at = _integer(text, at)
-    b, at = _integer(text, _past(text, at, " "))
-    length, at = _integer(text, _past(text, at, " "))
+    b, at = _integer(text, past(text, at, " "))
+    length, at = _integer(text, past(text, at, " "))
     return a, b, length, at
 
 
 def read_land(text):
     """The tuple (n, borders, turns, lengths) that a text tells."""
-    _want_text(text)
-    n, at = _integer(text, _past(text, 0, "shires "))
+    want_text(text)
+    n, at = _integer(text, past(text, 0, "shires "))
     borders = []
     turns = []
     lengths = []
     words = ("\nborder ", "\nturn ")
     while at < len(text):
-        word, at = _one_of(text, at, words)
+        word, at = one_of(text, at, words)
         if word == "\nturn ":
             turn, at = _numbers(text, at)
             turns.append(turn)
@@ -130,8 +135,8 @@ def plan_text(plan):
 
 def read_plan(text):
     """The plan that a text tells."""
-    _want_text(text)
-    at = _past(text, 0, "plan ")
+    want_text(text)
+    at = past(text, 0, "plan ")
     # For each open pair what is read of it: nothing yet, or its first. No recursion, as plans may be deep; below all
     # pairs stands one that is never filled, so that there is always a last one.
     pairs = [[]]
@@ -141,12 +146,12 @@ def read_plan(text):
             at += 1
         plan, at = _integer(text, at)
         while pairs[-1]:
-            at = _past(text, at, ")")
+            at = past(text, at, ")")
             plan = (pairs.pop()[0], plan)
         if len(pairs) == 1:
-            _want_end(text, at)
+            want_end(text, at)
             return plan
-        at = _past(text, at, " ")
+        at = past(text, at, " ")
         pairs[-1].append(plan)
 
 
@@ -157,9 +162,9 @@ def lot_text(numbers):
 
 def read_lot(text):
     """The tuple of numbers that a text tells."""
-    _want_text(text)
-    numbers, at = _numbers(text, _past(text, 0, "lot "))
-    _want_end(text, at)
+    want_text(text)
+    numbers, at = _numbers(text, past(text, 0, "lot "))
+    want_end(text, at)
     return numbers
 
 
@@ -174,13 +179,13 @@ def table_text(table):
 
 def read_table(text):
     """The pair (at, along) that a text tells."""
-    _want_text(text)
-    at = _past(text, 0, "table")
+    want_text(text)
+    at = past(text, 0, "table")
     at_corners = []
     along_borders = []
     words = ("\nat ", "\nalong ")
     while at < len(text):
-        word, at = _one_of(text, at, words)
+        word, at = one_of(text, at, words)
         numbers, at = _numbers(text, at)
         if word == "\nalong ":
             along_borders.append(numbers)

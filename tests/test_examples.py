@@ -8,7 +8,8 @@ from foxborders import errors
 from tests.values import exact
 
 # All files of the interface but that of the errors, which has no examples of its own.
-NAMES = "binding bordertrees changes chase counting kept land plans rounds sheets tables texts verdicts".split()
+NAMES = ("binding bordertrees changes chase counting desk house kept land plans rounds scripts sheets surveys tables texts "
+         "verdicts").split()
 FOLDER = pathlib.Path(__file__).parent / "examples"
 
 

@@ -4,6 +4,9 @@ import importlib
 import inspect
 import unittest
 
+from foxborders.desk import Desk
+from foxborders.house import House
+
 FUNCTIONS = {
     "foxborders.land": (
         "begin_of(land, side); end_of(land, side); back_of(side); borders_at(land, shire); neighbours(land, shire); "
@@ -66,8 +69,18 @@ FUNCTIONS = {
     "foxborders.kept": (
         "new_board(land); is_deed(board, value); done(board, deed); boards(board); undone(board); redone(board); "
         "width_now(board); told_now(board, k); widths_of(board); all_deeds(board, m); short_way(board)"),
+    "foxborders.surveys": (
+        "ring_land(n); wheel_land(n); ladder_land(n); board_land(m, n); widths_told(kind, most); words(land, most); "
+        "report(land); judge_report(land, value); by_width(lands)"),
+    "foxborders.scripts": "deed_text(deed); read_deed(text); log_text(deeds); read_log(text)",
 }
-CLASSES = {"foxborders.errors": "BadText(place); BadDeed(); NothingDone()"}
+CLASSES = {"foxborders.errors": "BadText(place); BadDeed(); NothingDone()", "foxborders.house": "House(land)",
+           "foxborders.desk": "Desk(land)"}
+METHODS = {
+    House: ("board(); do(deed); undo(); redo(); deeds(); twin(); settle(); land(); width(); plan(); paper(); joins(); "
+            "table(k); bell(k, c, s); fox(k, c, s, e)"),
+    Desk: "house(); say(line)",
+}
 
 
 class Interface(unittest.TestCase):
@@ -87,3 +100,12 @@ class Interface(unittest.TestCase):
 
     def test_classes(self):
         self.check(CLASSES, inspect.isclass)
+
+    def test_methods(self):
+        for kind, rows in METHODS.items():
+            for row in rows.split("; "):
+                name, arguments = row.rstrip(")").split("(")
+                # In the class itself, not in one above it.
+                told = vars(kind)[name]
+                self.assertTrue(inspect.isfunction(told), row)
+                self.assertEqual(", ".join(inspect.signature(told).parameters), ", ".join(["self", arguments]).rstrip(", "), row)

@@ -10,7 +10,7 @@ PACKAGE = pathlib.Path(__file__).parent.parent / "foxborders"
 LIBRARY = {"heapq": ("heappop", "heappush", "heapify"), "math": ("gcd", "lcm", "isqrt", "comb"),
            "itertools": ("product", "combinations", "permutations")}
 BARRED = (ast.AsyncFunctionDef, ast.Await, ast.Global, ast.Nonlocal, ast.Import, ast.Div, ast.Starred, ast.Lambda,
-          ast.Yield, ast.YieldFrom, ast.GeneratorExp, ast.Try, ast.With, ast.Match, ast.NamedExpr, ast.Pow)
+          ast.Yield, ast.YieldFrom, ast.GeneratorExp, ast.With, ast.Match, ast.NamedExpr, ast.Pow)
 BUILTINS = ("len range enumerate zip min max sum abs sorted reversed int str bool list tuple dict set isinstance ord repr "
             "any all divmod super ValueError").split()
 METHODS = ("append clear copy count endswith extend find get index insert items join keys lower partition pop remove replace "
@@ -87,6 +87,34 @@ class Rules(unittest.TestCase):
             for node in ast.walk(tree):
                 self.assertFalse(isinstance(node, BARRED) and node not in keys, (path, node))
                 self.assertFalse(isinstance(node, ast.Constant) and isinstance(node.value, (float, bytes)), path)
+
+    def test_handlers(self):
+        # Own errors alone are caught, around one statement; nothing is done at the end of all.
+        own = {name for path, tree in trees() if path.stem == "errors" for name in defined(tree)}
+        for path, tree in trees():
+            for node in ast.walk(tree):
+                if isinstance(node, ast.Try):
+                    self.assertEqual([len(node.body), node.orelse, node.finalbody], [1, [], []], (path, node.lineno))
+                    for handler in node.handlers:
+                        caught = handler.type.elts if isinstance(handler.type, ast.Tuple) else [handler.type]
+                        self.assertLessEqual({name.id for name in caught}, own, (path, node.lineno))
+                        self.assertIsNone(handler.name, (path, node.lineno))
+
+    def test_raised(self):
+        own = {name for path, tree in trees() if path.stem == "errors" for name in defined(tree)}
+        for path, tree in trees():
+            for node in ast.walk(tree):
+                if isinstance(node, ast.Raise):
+                    self.assertIn(node.exc.func.id, own, (path, node.lineno))
+
+    def test_names_of_methods_and_attributes(self):
+        for path, tree in trees():
+            for kind in ast.walk(tree):
+                if isinstance(kind, ast.ClassDef):
+                    methods = {node.name for node in kind.body if isinstance(node, ast.FunctionDef)}
+                    stored = {node.attr for node in ast.walk(kind) if isinstance(node, ast.Attribute) and isinstance(node.ctx, ast.Store)}
+                    self.assertFalse(methods & stored, path)
+                    self.assertFalse((methods | stored) & set(dir(str) + dir(list) + dir(dict) + dir(set) + dir(int)) - {"__init__"}, path)
 
     def test_imports(self):
         known = {"foxborders." + path.stem: defined(tree) for path, tree in trees()}

@@ -1,4 +1,4 @@
-"""What the languages of [2.1] and [2.2] hold, told in another way than the package reads them.
+"""What the languages of [2.1], [2.2] and [14.1] hold, told in another way than the package reads them.
 
 A beginning can be read on if one of some endings makes it a text of the language. As the beginnings of a text that
 can be read on are just those up to some length, that length is found by halving.
@@ -12,6 +12,11 @@ NUMBERS = f"(-|{NUMBER}( {NUMBER})*)"
 LAND = re.compile(rf"shires {NUMBER}(\nborder {NUMBER} {NUMBER} {NUMBER})*(\nturn {NUMBERS})*", re.ASCII)
 LOT = re.compile(f"lot {NUMBERS}", re.ASCII)
 TABLE = re.compile(rf"table(\nat {NUMBERS})*(\nalong {NUMBERS})*", re.ASCII)
+GREAT = "(0|[1-9][0-9]{0,59})"
+ONE_DEED = f"(length {GREAT} {GREAT}|join {GREAT}|shrink {GREAT})"
+DEED = re.compile(ONE_DEED, re.ASCII)
+LOG = re.compile(rf"({ONE_DEED}(\n{ONE_DEED})*)?", re.ASCII)
+DEED_ENDINGS = ("length 0 0", "join 0", "shrink 0")
 PART = f"({NUMBER}|P)"
 PAIR = re.compile(rf"\({PART} {PART}\)")
 
@@ -46,6 +51,8 @@ LANGUAGES = {
     "lot": (has(LOT), endings("lot 0")),
     "table": (has(TABLE), endings("table", "\nat 0", "\nalong 0")),
     "plan": (is_plan_text, plan_endings),
+    "deed": (has(DEED), endings(*DEED_ENDINGS)),
+    "log": (has(LOG), endings(*DEED_ENDINGS, *["\n" + ending for ending in DEED_ENDINGS])),
 }
 
 
